@@ -1,0 +1,1 @@
+"""Leavebook: deeds under several hands' leave, with papers."""
