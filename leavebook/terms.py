@@ -4,7 +4,18 @@ from leavebook.basics import is_tuple_from_to, is_whole
 from leavebook.names import is_name, is_names_from_to
 from leavebook.whos import is_who
 
+# The places of terms.
+THING = 0
+DEEDS = 1
+WHO = 2
+NEED = 3
+MOST = 4
+TOTAL = 5
+START = 6
+END = 7
+ON = 8
 PLACES = 9
+
 MOST_DEEDS = 6
 MOST_NEED = 6
 MOST_ON = 5
