@@ -1,10 +1,16 @@
-"""What many modules need: whole numbers, rising tuples, and the sizes of nested tuples."""
+"""What many modules need: refusing, whole numbers, rising tuples, and the sizes of nested tuples."""
 
-from leavebook.errors import NoText
+from leavebook.errors import NoText, Refused
 
 FIGURES = "0123456789"
 MOST_NESTED = 24
 MOST_DEEP = 5
+
+
+def refuse_where(due, word):
+    """Refuses with the word where it is due."""
+    if due:
+        raise Refused(word)
 
 
 def is_whole(thing, least):

@@ -1,8 +1,10 @@
 """What the tests share: whatever things, and texts that are near to a right one."""
 
+import copy
 import unittest
 
-from leavebook.errors import NoText
+from leavebook.errors import NoText, Refused
+from leavebook.puts import put_to
 
 NAMED = {"key": 1}
 
@@ -76,6 +78,25 @@ class Case(unittest.TestCase):
             with self.subTest(text=text):
                 self.assertEqual(write(thing), text)
                 self.alike(read(text), thing)
+
+    def behind(self, stand, *entries):
+        """The stand behind the entries; what is handed in stays as it was."""
+        for entry in entries:
+            told = copy.deepcopy((stand, entry))
+            after = put_to(stand, entry)
+            self.assertEqual((stand, entry), told)
+            stand = after
+        return stand
+
+    def refused(self, word, stand, *entries):
+        """Each of the entries is refused with the word; what is handed in stays as it was."""
+        for entry in entries:
+            told = copy.deepcopy(stand)
+            with self.subTest(entry=entry):
+                with self.assertRaises(Refused) as caught:
+                    put_to(stand, entry)
+                self.assertEqual(caught.exception.word, word)
+            self.assertEqual(stand, told)
 
     def alike(self, one, other):
         """Equal, with the same kinds of values all through."""

@@ -53,6 +53,10 @@ class Hands(Case):
         self.meant("@chief", [], other(STAND, seats=[("clerk", "ann", 4)]))
         self.meant("@chief", ["ann"], other(STAND, seats=[("chief", "ann", 4)]))
 
+    def test_while_now_is_below_until(self):
+        for now, hands in ((7, ["dan"]), (8, ["dan"]), (9, []), (10, [])):
+            self.meant("@chief", hands, other(STAND, now=now))
+
     def test_a_group_that_was_quit(self):
         self.meant("+team", ["ann"], other(STAND, groups=[("team", "ann")]))
 

@@ -12,6 +12,10 @@ ArithmeticError OverflowError RuntimeError NotImplementedError AttributeError St
 classmethod""".split())
 BARRED = set("""type typing typing_extensions enum Enum IntEnum StrEnum Flag IntFlag Generic Protocol ABC ABCMeta namedtuple
 NamedTuple TypedDict TYPE_CHECKING abstractmethod""".split())
+# L17, and builtins that L15 keeps from having another meaning.
+UNUSED = set("""register mro elements open input version_info with_traceback add_note attrgetter breakpoint builtins compile copyright
+credits delattr dir eval exec exit gc getattr globals hasattr help id importlib license locals methodcaller os quit setattr type
+vars sys hash next map round filter iter pow print slice bin hex oct ord chr object float complex bytearray memoryview""".split())
 NODES = (ast.Global, ast.AsyncFunctionDef, ast.AsyncFor, ast.AsyncWith, ast.Await, ast.NamedExpr, ast.Import, ast.Div)
 
 
@@ -65,6 +69,35 @@ class Language(unittest.TestCase):
                     defined |= {made.targets[0].id for made in source.body if isinstance(made, ast.Assign)}
                     self.assertLessEqual({alias.name for alias in node.names}, defined, path)
 
+    def test_no_circle_of_imports(self):
+        above = {path.stem: {node.module.split(".")[1] for node in tree.body if isinstance(node, ast.ImportFrom)} for path, tree in trees()}
+        while above:
+            free = [name for name in above if not above[name] & set(above)]
+            self.assertTrue(free, above)
+            for name in free:
+                del above[name]
+
+    def test_no_second_meaning_of_a_files_names(self):
+        for path, tree in trees():
+            imported = {alias.name for node in tree.body if isinstance(node, ast.ImportFrom) for alias in node.names}
+            classes = {node.name for node in tree.body if isinstance(node, ast.ClassDef)}
+            top = [node.name for node in tree.body if isinstance(node, (ast.FunctionDef, ast.ClassDef))]
+            top += [node.targets[0].id for node in tree.body if isinstance(node, ast.Assign)]
+            self.assertEqual(len(top), len(set(top) - imported), path)
+            local = {node.arg for node in ast.walk(tree) if isinstance(node, ast.arg)}
+            local |= {node.id for node in ast.walk(tree) if isinstance(node, ast.Name) and isinstance(node.ctx, ast.Store)}
+            self.assertFalse(local & (imported | classes), path)
+
+    def test_stars(self):
+        for path, tree in trees():
+            for node in ast.walk(tree):
+                if isinstance(node, (ast.Set, ast.Subscript)):
+                    inner = node.elts if isinstance(node, ast.Set) else [node.slice]
+                    self.assertFalse([item for item in inner if isinstance(item, ast.Starred)], path)
+                if isinstance(node, ast.Call):
+                    starred = [item.value for item in node.args if isinstance(item, ast.Starred)]
+                    self.assertTrue(all(isinstance(item, (ast.Name, ast.Attribute)) for item in starred), path)
+
     def test_statements_and_names(self):
         for path, tree in trees():
             names = bound_names(tree)
@@ -76,7 +109,7 @@ class Language(unittest.TestCase):
                     self.assertNotIsInstance(node.value, (float, complex), path)
                 if isinstance(node, ast.Name) and isinstance(node.ctx, ast.Load):
                     self.assertIn(node.id, names | BUILTINS, path)
-            self.assertFalse(names & BUILTINS, path)
+            self.assertFalse(names & (BUILTINS | UNUSED), path)
             self.assertFalse([name for name in names if name.startswith("_") and name != "__init__"], path)
 
 

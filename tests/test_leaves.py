@@ -116,6 +116,10 @@ class MayHandOn(Case):
     def test_by_an_office_that_is_held_no_more(self):
         self.may(False, ["dan"], "b", stand=other(STAND, seats=[]))
 
+    def test_by_one_that_does_not_stand(self):
+        self.may(False, ["cid"], "gone")
+        self.may(False, ["cid"], "none")
+
     def test_by_one_that_is_not_open(self):
         self.may(True, ["ann"], "a", stand=other(STAND, leaves=[leave("a", "pay on till by 1 ann to 5")]))
 
