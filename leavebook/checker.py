@@ -22,24 +22,32 @@ def rule_asked(stand, asked):
     return rule_of(stand, asked[ASKED_DEED], asked[ASKED_THING])
 
 
+def wanted_by(asked, atom):
+    """The deed and the thing that the atom wants a leave for."""
+    return atom[1:] if atom[0] == "with" else (asked[ASKED_DEED], asked[ASKED_THING])
+
+
 def leaves_for(stand, asked, atom):
     """The names of all leaves, ended ones too, whose terms have the atom's thing and deed; rising."""
-    deed, thing = asked[ASKED_DEED], asked[ASKED_THING]
-    if atom[0] == "with":
-        deed, thing = atom[1], atom[2]
+    deed, thing = wanted_by(asked, atom)
     return [row[0] for row in stand[LEAVES] if row[TERMS][THING] == thing and deed in row[TERMS][DEEDS]]
+
+
+def fit_of(stand, asked, atom, hands):
+    """The list of those of the hands that are free for what is asked and, for of, of the atom's who."""
+    if atom[0] == "of":
+        meant = hands_of(stand, atom[1])
+        hands = [hand for hand in hands if hand in meant]
+    deed, thing, case = asked[ASKED_DEED], asked[ASKED_THING], asked[ASKED_CASE]
+    # Also for another thing's leave, the hand must be free for the deed that is asked for.
+    return [hand for hand in hands if is_free(stand, hand, deed, thing, case)]
 
 
 def may_sign(stand, asked, atom, leave):
     """The rising tuple of all hands that may sign for the atom by the leave in a paper."""
     hands = hands_of(stand, terms_of(stand, leave)[WHO])
-    if atom[0] == "of":
-        meant = hands_of(stand, atom[1])
-        hands = [hand for hand in hands if hand in meant]
     signed = [hand for hand in hands if (hand, leave) in asked[SIGNS]]
-    deed, thing, case = asked[ASKED_DEED], asked[ASKED_THING], asked[ASKED_CASE]
-    # Also for another thing's leave, the hand must be free for the deed that is asked for.
-    return tuple([hand for hand in signed if is_free(stand, hand, deed, thing, case)])
+    return tuple(fit_of(stand, asked, atom, signed))
 
 
 def usable_chains(stand, leave, amount):

@@ -24,6 +24,24 @@ def is_names_from_to(thing, least, most):
     return is_tuple_from_to(thing, least, most) and is_names(thing)
 
 
+def name_at(number):
+    """The name of this number, from 0, when all names are told, shorter ones first."""
+    letters = []
+    left = number + 1
+    while left > 0:
+        left, at = divmod(left - 1, len(LETTERS))
+        letters.append(LETTERS[at])
+    return "".join(letters[::-1])
+
+
+def fresh_name(taken):
+    """The first name that isn't one of the taken ones."""
+    number = 0
+    while name_at(number) in taken:
+        number += 1
+    return name_at(number)
+
+
 def hands_text(hands):
     """The names with commas between, or a dash for none."""
     return ",".join(hands) if hands else "-"

@@ -18,9 +18,13 @@ def put_to(stand, entry):
     return put_by_asking(stand, entry)
 
 
-def stand_behind(entries):
-    """The stand behind the entries, put one behind the other to the first stand, or Refused."""
-    stand = first_stand()
+def all_put_to(stand, entries):
+    """The stand behind the entries, put one behind the other, or Refused."""
     for entry in entries:
         stand = put_to(stand, entry)
     return stand
+
+
+def stand_behind(entries):
+    """The stand behind the entries, put one behind the other to the first stand, or Refused."""
+    return all_put_to(first_stand(), entries)

@@ -1,5 +1,6 @@
 """The promises said a second time, as plainly as can be, to compare the program with: slow, and with state."""
 
+import copy
 import itertools
 
 
@@ -176,17 +177,89 @@ class Plain:
         )
 
     def is_show(self, asking, atom, name, word, told):
+        if word != "few":
+            return self.is_cut_or_ended(self.askings[asking]["asked"][4], name, word, told)
+        return self.standing(name) and told == self.signing(asking, atom, name) and len(told) < self.leaves[name]["terms"][3]
+
+    def is_cut_or_ended(self, amount, name, word, told):
         if word == "ended":
             return not self.standing(name) and told == ()
-        if not self.standing(name):
-            return False
-        if word == "few":
-            return told == self.signing(asking, atom, name) and len(told) < self.leaves[name]["terms"][3]
-        amount = self.askings[asking]["asked"][4]
-        if word != "barred" or list(told) != sorted(set(told)):
+        if word != "barred" or not self.standing(name) or list(told) != sorted(set(told)):
             return False
         cut = all(self.standing(link) and not self.usable(link, amount) for link in told)
         return cut and all(set(chain) & set(told) for chain in self.chains(name))
+
+    # Looked ahead.
+
+    def for_deed(self, deed, thing):
+        """The names of the leaves, ended ones too, for the deed on the thing."""
+        return sorted(name for name, row in self.leaves.items() if row["terms"][0] == thing and deed in row["terms"][1])
+
+    def is_never(self, some, deed, thing, case, amount, rows):
+        if thing not in self.things:
+            return rows == []
+        rule = self.rules.get((thing, deed), ("any",))
+        atoms = self.atoms(rule)
+        numbers = [number for number, shows in rows]
+        if numbers != sorted(set(numbers)) or not set(numbers) <= set(range(len(atoms))):
+            return False
+        if self.holds(rule, iter([number not in numbers for number in range(len(atoms))])):
+            return False
+        for number, shows in rows:
+            what, where = atoms[number][1:] if atoms[number][0] == "with" else (deed, thing)
+            if [show[0] for show in shows] != self.for_deed(what, where):
+                return False
+            fit = {hand for hand in some if self.free(hand, deed, thing, case)}
+            if atoms[number][0] == "of":
+                fit &= self.meant(atoms[number][1])
+            if fit and self.things.get(where) in some:
+                return False
+            if not all(self.is_never_show(some, fit, amount, *show) for show in shows):
+                return False
+        return True
+
+    def is_never_show(self, some, fit, amount, name, word, told):
+        if word != "few":
+            return self.is_cut_or_ended(amount, name, word, told)
+        if not self.standing(name):
+            return False
+        terms = self.leaves[name]["terms"]
+        able = self.meant(terms[2]) & set(some)
+        if told != (tuple(sorted(able & fit)), tuple(sorted(able))):
+            return False
+        return len(able & fit) < terms[3] and (len(able) < terms[3] or terms[8] == 0 or not fit)
+
+    def handings(self, some, new):
+        """All that some can do with leaves right now; of gives, of new as their name, one of each parent to each hand."""
+        moves = []
+        for thing, owner in self.things.items():
+            deeds = sorted({deed for row in self.leaves.values() for deed in row["terms"][1]} | {"pay"})[:6]
+            moves += [("give", new, (owner,), "", (thing, tuple(deeds), (("hand", hand),), 1, None, None, 0, None, 5)) for hand in some]
+        for name, row in self.leaves.items():
+            terms, able = row["terms"], tuple(sorted(self.meant(row["terms"][2]) & set(some)))
+            wholes = [(terms[0], terms[1], (("hand", hand),), 1, *terms[4:8], terms[8] - 1) for hand in some if terms[8]]
+            moves += [("give", new, able, name, whole) for whole in wholes]
+            moves += [("back", able, child, name) for child in self.leaves]
+            moves += [("back", (self.things[terms[0]],), name, "")]
+            for parent in row["parents"]:
+                above = tuple(sorted(self.meant(self.leaves[parent]["terms"][2]) & set(some))) if parent else ()
+                moves += [("take", by, name, parent, how) for by in (above, (self.things[terms[0]],)) for how in ("fall", "pass")]
+        return [move for move in moves if set(self.signers_of(move)) and set(self.signers_of(move)) <= set(some)]
+
+    def signers_of(self, move):
+        return move[2] if move[0] == "give" else move[1]
+
+    def brings(self, some, deed, thing, case, amount):
+        """Whether some can do it without any more handings, by an asking that all of them sign by whatever they can."""
+        if not some or thing not in self.things:
+            return False
+        again = copy.deepcopy(self)
+        again.put_ask("brings", some[0], deed, thing, case, amount)
+        for hand in some:
+            for name in self.leaves:
+                if self.standing(name) and hand in self.meant(self.leaves[name]["terms"][2]):
+                    again.put_sign(hand, "brings", name)
+        return again.can("brings", again.rule("brings"))
 
     # What is done to it.
 

@@ -3,6 +3,7 @@
 import copy
 import unittest
 
+from leavebook.entries import is_entry
 from leavebook.errors import NoText, Refused
 from leavebook.puts import put_to
 
@@ -47,6 +48,32 @@ def near_texts(text):
         near.add(" ".join(words[:at] + words[at + 1:at + 2] + words[at:at + 1] + words[at + 2:]))
     near.discard(text)
     return sorted(near)
+
+
+def by_hands(entry):
+    """The hands that make an entry of the kinds that hands do; None of another one."""
+    places = {"give": 2, "back": 1, "take": 1, "ask": 2, "sign": 1, "unsign": 1, "drop": 1}
+    if entry[0] == "do":
+        return set()
+    made = entry[places[entry[0]]] if entry[0] in places else None
+    return {made} if isinstance(made, str) else made and set(made)
+
+
+def rightly_done(stand, some, asked, row):
+    """True of a row of entries by which some alone do what is asked, put to the stand one behind the other."""
+    if not isinstance(row, list) or not all(is_entry(entry) for entry in row):
+        return False
+    if not all(by_hands(entry) is not None and by_hands(entry) <= set(some) for entry in row) or row[-1][0] != "do":
+        return False
+    asks = [entry for entry in row if entry[0] == "ask" and entry[1] == row[-1][1]]
+    if len(asks) != 1 or asks[0][3:] != asked or asks[0][1] in [known[0] for known in stand[8]]:
+        return False
+    try:
+        for entry in row:
+            stand = put_to(stand, entry)
+    except Refused:
+        return False
+    return [known[7] for known in stand[8] if known[0] == row[-1][1]] == ["done"]
 
 
 class Case(unittest.TestCase):

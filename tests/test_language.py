@@ -16,6 +16,13 @@ NamedTuple TypedDict TYPE_CHECKING abstractmethod""".split())
 UNUSED = set("""register mro elements open input version_info with_traceback add_note attrgetter breakpoint builtins compile copyright
 credits delattr dir eval exec exit gc getattr globals hasattr help id importlib license locals methodcaller os quit setattr type
 vars sys hash next map round filter iter pow print slice bin hex oct ord chr object float complex bytearray memoryview""".split())
+AT_ONCE = set("zip enumerate reversed range items keys values".split())
+TAKERS = set("list tuple dict sorted sum any all enumerate zip min max".split())
+GENERATED = set("list tuple dict sorted sum min max any all join".split())
+# L25.
+METHODS = set("""append clear copy count endswith extend find get index insert isalnum isalpha isdigit islower isspace isupper items join
+keys ljust lower lstrip partition pop remove replace reverse rfind rjust rpartition rsplit rstrip setdefault split splitlines startswith
+strip update upper values zfill""".split())
 NODES = (ast.Global, ast.AsyncFunctionDef, ast.AsyncFor, ast.AsyncWith, ast.Await, ast.NamedExpr, ast.Import, ast.Div)
 
 
@@ -25,6 +32,13 @@ def files():
 
 def trees():
     return [(path, ast.parse(path.read_text())) for path in files()]
+
+
+def called(node):
+    """The name of what is called, or None."""
+    if not isinstance(node, ast.Call):
+        return None
+    return node.func.attr if isinstance(node.func, ast.Attribute) else getattr(node.func, "id", None)
 
 
 def bound_names(tree):
@@ -97,6 +111,31 @@ class Language(unittest.TestCase):
                 if isinstance(node, ast.Call):
                     starred = [item.value for item in node.args if isinstance(item, ast.Starred)]
                     self.assertTrue(all(isinstance(item, (ast.Name, ast.Attribute)) for item in starred), path)
+
+    def test_iterated_at_once(self):
+        """L23: what zip and the like tell isn't stored; generator expressions stand where L7 allows them."""
+        for path, tree in trees():
+            above = {inner: node for node in ast.walk(tree) for inner in ast.iter_child_nodes(node)}
+            for node in ast.walk(tree):
+                if isinstance(node, ast.Call) and called(node) in AT_ONCE:
+                    over = above[node]
+                    looped = isinstance(over, (ast.For, ast.comprehension)) and over.iter is node
+                    self.assertTrue(looped or isinstance(over, ast.Call) and called(over) in TAKERS, (path, node.lineno))
+                if isinstance(node, ast.GeneratorExp):
+                    self.assertIn(called(above[node]), GENERATED, (path, node.lineno))
+
+    def test_classes(self):
+        """L18, L26: no name is a method and an attribute; no attribute has a name of what builtin values have."""
+        methods, attributes, read = set(), set(), set()
+        for path, tree in trees():
+            for node in ast.walk(tree):
+                if isinstance(node, ast.ClassDef):
+                    methods |= {inner.name for inner in node.body if isinstance(inner, ast.FunctionDef)}
+                if isinstance(node, ast.Attribute):
+                    (attributes if isinstance(node.ctx, ast.Store) else read).add(node.attr)
+        self.assertFalse(methods & attributes)
+        self.assertFalse(attributes & set(dir(str) + dir(list) + dir(dict) + dir(set) + dir(bytes) + dir(int)))
+        self.assertLessEqual(read, methods | attributes | METHODS)
 
     def test_statements_and_names(self):
         for path, tree in trees():

@@ -3,7 +3,7 @@
 import re
 import unittest
 
-from leavebook.names import hands_text, is_name, is_names, read_hands
+from leavebook.names import fresh_name, hands_text, is_name, is_names, name_at, read_hands
 from tests.samples import NO_TEXTS, WHATEVER, Case
 
 
@@ -76,6 +76,21 @@ class Hands(Case):
         hands.append("cid")
         self.assertEqual(text, "ann,bob")
         self.assertEqual(hands_text(["ann", "bob"]), "ann,bob")
+
+
+class Fresh(Case):
+    def test_names_by_number(self):
+        for number, name in ((0, "a"), (25, "z"), (26, "aa"), (27, "ab"), (51, "az"), (52, "ba"), (701, "zz"), (702, "aaa"), (26 ** 2 + 26 + 26 ** 3, "aaaa")):
+            self.assertEqual(name_at(number), name)
+        names = [name_at(number) for number in range(3000)]
+        self.true_of(is_name, names[::100])
+        self.assertEqual(names, sorted(set(names), key=lambda name: (len(name), name)))
+
+    def test_a_name_that_is_not_taken(self):
+        self.assertEqual(fresh_name([]), "a")
+        self.assertEqual(fresh_name(["b", "ann"]), "a")
+        self.assertEqual(fresh_name(["c", "a", "b"]), "d")
+        self.assertEqual(fresh_name(list("abcdefghijklmnopqrstuvwxyz")), "aa")
 
 
 if __name__ == "__main__":

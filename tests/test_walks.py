@@ -187,6 +187,14 @@ class Walker:
             return (word, self.one(*HANDS), self.asking())
         return {"give": self.give, "back": self.back, "take": self.take, "do": self.do}[word]()
 
+    def put_some(self, words):
+        """Puts an entry of each of these kinds where it is right."""
+        for word in words:
+            try:
+                self.plain.put(self.entry_of(word))
+            except Word:
+                pass
+
     def near_lack(self, lack):
         """The lack with one thing in it changed."""
         rows = copy.deepcopy(lack)
