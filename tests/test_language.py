@@ -53,6 +53,8 @@ def bound_names(tree):
             names.add(node.asname or node.name)
         elif isinstance(node, ast.Name) and isinstance(node.ctx, ast.Store):
             names.add(node.id)
+        elif isinstance(node, ast.ExceptHandler) and node.name:
+            names.add(node.name)
     return names
 
 

@@ -4,6 +4,7 @@ import unittest
 
 from leavebook.rules import is_rule
 from leavebook.ruletexts import read_rule, rule_text
+from tests import shapes
 from tests.samples import NO_TEXTS, Case
 from tests.test_rules import ANY, OF, RULES, WITH, deep, some, wide
 
@@ -70,7 +71,7 @@ class RuleTexts(Case):
 
     def test_near_texts(self):
         texts = ["any", "of +team,ann", "with see till", "2 (any; of @chief; with see till)", "all (any; 1 (any; of ann))", "all (all (any))"]
-        self.near(rule_text, read_rule, is_rule, texts)
+        self.near(rule_text, read_rule, is_rule, texts, shapes.is_rule)
 
 
 if __name__ == "__main__":
