@@ -262,6 +262,33 @@ class Rules(Could):
         self.only(stand, [["ann"], ["bob"]], ("see", "till", "case", 30))
 
 
+class Short(Could):
+    """No entries that aren't needed."""
+
+    def words(self, stand, some):
+        return [entry[0] for entry in self.can(stand, some)]
+
+    def test_signed_where_a_leave_is_there(self):
+        leaves = [leave("a", "pay on till by 1 bob pass 1"), leave("b", "pay on till by 1 cid pass 1"), leave("c", "pay on till by 1 dan")]
+        stand = stand_with(*leaves, askings=[was("bob")])
+        self.assertEqual(self.words(stand, ["bob", "cid"]), ["ask", "sign", "do"])
+        self.assertEqual(self.words(stand, ["ann", "dan"]), ["ask", "sign", "do"])
+        self.assertEqual(self.words(stand, ["bob", "eve"]), ["ask", "give", "sign", "do"])
+
+    def test_one_new_leave_for_many_atoms(self):
+        self.assertEqual(self.words(stand_with(rule="all (any; any; of ann,bob)"), ["ann"]), ["ask", "give", "sign", "do"])
+        self.assertEqual(self.words(stand_with(rule="all (of ann; of bob; any)"), ["ann", "bob"]), ["ask", "give", "sign", "give", "sign", "do"])
+        self.assertEqual(self.words(stand_with(rule="all (any; with pay till; with see till)"), ["ann"]), ["ask", "give", "sign", "give", "sign", "do"])
+
+    def test_one_new_leave_by_each_parent(self):
+        stand = stand_with(leave("a", "pay on till by 1 ann pass 1"), leave("b", "see on box by 1 ann pass 1"), rule="all (any; with see box; any)", askings=[was("ann")])
+        self.assertEqual(self.words(stand, ["ann", "eve"]), ["ask", "give", "sign", "give", "sign", "do"])
+
+    def test_no_more_atoms_than_the_rule_wants(self):
+        self.assertEqual(self.words(stand_with(rule="1 (of ann; of bob; of cid)"), ["ann", "bob", "cid"]), ["ask", "give", "sign", "do"])
+        self.assertEqual(self.words(stand_with(rule="2 (of ann; all (of bob; of zoe); of cid; of bob)"), ["ann", "bob", "cid"]), ["ask", "give", "sign", "give", "sign", "do"])
+
+
 class Freedom(Could):
     def test_case_thing_and_deed(self):
         held = leave("a", "check,pay,see on till by 1 bob")

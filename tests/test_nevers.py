@@ -106,6 +106,10 @@ class Rows(Nevers):
 
     def test_other_kinds_of_rows(self):
         self.lets(False, self.stand, [(0, tuple(SHOWS))], [(0, SHOWS, ())], [(0,)], [(0, [show + ((),) for show in SHOWS])], tuple(ROWS))
+        for name, word, told in SHOWS:
+            for wrong in ((name, word, told, ()), (name, word), (name,), (), [name, word, told], (name, word, list(told)), (name, word, None)):
+                self.lets(False, self.stand, [(0, [wrong if show[0] == name else show for show in SHOWS])])
+        self.lets(False, self.stand, showing("c", "few", None), showing("c", "barred", None), showing("c", "barred", 0), showing("c", "barred", ((), ("b",))))
 
     def test_a_thing_that_is_not_there(self):
         asked = ("pay", "van", "case", 30)
